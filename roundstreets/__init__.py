@@ -1,0 +1,1 @@
+"""Towns that wrap round, with two streets from each crossing."""
