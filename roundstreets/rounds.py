@@ -3,8 +3,9 @@
 from math import comb
 
 from roundstreets.errors import BadNumber
+from roundstreets.openwalks import is_open_walk
 from roundstreets.plans import rings, rings_made
-from roundstreets.towns import check_town, check_whole, count_lots, ends, is_number, is_pair, is_whole
+from roundstreets.towns import check_town, check_whole, count_lots, ends, is_number, is_whole
 
 
 def count_rings(town, many):
@@ -42,15 +43,7 @@ def round_trip(town):
 
 def is_round_trip(town, value):
     """Tell whether the value goes along streets through all crossings and back to (0, 0)."""
-    width, height = town[0], town[1]
-    if not isinstance(value, tuple) or len(value) != width * height:
-        return False
-    if not all([is_pair(crossing, width, height) for crossing in value]):
-        return False
-    if value[0] != (0, 0) or len(set(value)) != len(value):
-        return False
-    following = value[1:] + value[:1]
-    return all([there in ends(town, here) for here, there in zip(value, following)])
+    return is_open_walk(town, value) and (0, 0) in ends(town, value[-1])
 
 
 def shows_round_trip(town, value):

@@ -109,28 +109,35 @@ def lots_on_first(town, streets):
     return tuple(number for number, lot in numbered if street_at[lot[0]] == 1)
 
 
-def goes_round(town, trip):
-    """Whether a tuple of crossings goes along streets through all of them and back."""
-    if sorted(trip) != all_crossings(town[0], town[1]) or trip[0] != (0, 0):
+def goes_along(town, walk):
+    """Whether a tuple of crossings goes along streets through all of them, from (0, 0) on."""
+    if sorted(walk) != all_crossings(town[0], town[1]) or walk[0] != (0, 0):
         return False
-    after = trip[1:] + trip[:1]
     return all(
-        there in (led_to(town, here, 1), led_to(town, here, 2)) for here, there in zip(trip, after)
+        there in (led_to(town, here, 1), led_to(town, here, 2)) for here, there in zip(walk, walk[1:])
     )
 
 
-def plain_trips(town):
-    """Every round trip of a town, by walking on wherever a crossing is still new."""
+def goes_round(town, trip):
+    """Whether a tuple of crossings goes along streets through all of them and back."""
+    return goes_along(town, trip) and (0, 0) in (led_to(town, trip[-1], 1), led_to(town, trip[-1], 2))
+
+
+def plain_walks(town):
+    """Every open walk of a town, by walking on wherever a crossing is still new."""
     finished = []
     waiting = [((0, 0),)]
     while waiting:
         path = waiting.pop()
+        if len(path) == town[0] * town[1]:
+            finished.append(path)
         for street in (1, 2):
             there = led_to(town, path[-1], street)
             if there not in path:
                 waiting.append(path + (there,))
-            elif there == (0, 0) and len(path) == town[0] * town[1]:
-                finished.append(path)
     return finished
 
 
+def plain_trips(town):
+    """Every round trip of a town: an open walk from whose end a street leads back."""
+    return [path for path in plain_walks(town) if goes_round(town, path)]

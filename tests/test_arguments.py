@@ -7,17 +7,29 @@ from wrong_values import (
     NOT_CHOICES,
     NOT_COUNTS_3,
     NOT_CROSSINGS_2_3,
+    NOT_SIDES,
+    NOT_STREETS,
     NOT_TABLES,
+    NOT_TEXTS,
     OTHER_KINDS,
     bad_towns,
 )
 
-from roundstreets.errors import BadChoice, BadCrossing, BadNumber, BadTable, BadTown, NotWhole, TownError
+from roundstreets.errors import BadChoice, BadCrossing, BadNumber, BadTable, BadText, BadTown, NotWhole, TownError
+from roundstreets.grids import grid, round_grids, shares
+from roundstreets.openwalks import open_walk, shows_open_walk
 from roundstreets.plans import count_plans, is_plan, plans_by_rings, rings, table
 from roundstreets.rounds import count_rings, count_rounds, numbers, round_trip, shows_round_trip
 from roundstreets.towns import ends, is_town, is_whole, lots, order
+from roundstreets.towntexts import read_town, write_town
+from roundstreets.walkers import Walker
 
-OF_A_TOWN = [is_whole, lots, count_plans, plans_by_rings, numbers, count_rounds, round_trip]
+OF_A_TOWN = [
+    is_whole, lots, count_plans, plans_by_rings, numbers, count_rounds, round_trip, open_walk, Walker, write_town,
+]
+# Their answers are any such values, or have a state of their own.
+NOT_ALWAYS_EQUAL = [round_trip, open_walk, Walker]
+SHOWING = [shows_round_trip, shows_open_walk]
 # Each with the error for its second argument, and values that are wrong for LOTS_3.
 OF_TWO = [
     (ends, BadCrossing, NOT_CROSSINGS_2_3),
@@ -52,7 +64,8 @@ class WrongArguments(unittest.TestCase):
             for part, town in bad_towns():
                 self.assert_bad_town(part, function, town, right)
         for part, town in bad_towns():
-            self.assert_bad_town(part, shows_round_trip, town, None)
+            for function in SHOWING:
+                self.assert_bad_town(part, function, town, None)
 
     def test_a_wrong_second_argument(self):
         for function, error, values in OF_TWO:
@@ -66,7 +79,8 @@ class WrongArguments(unittest.TestCase):
                     self.assert_bad_town(part, function, town, value)
         for part, town in bad_towns():
             for value in OTHER_KINDS:
-                self.assert_bad_town(part, shows_round_trip, town, value)
+                for function in SHOWING:
+                    self.assert_bad_town(part, function, town, value)
 
     def test_not_whole(self):
         for town in NOT_WHOLE:
@@ -86,7 +100,27 @@ class WrongArguments(unittest.TestCase):
                 function(town)
         for function, right in [(ends, (0, 0)), (order, (0, 0)), (is_plan, (1,) * 4), (table, ()), (rings, ())]:
             function(town, right)
-        shows_round_trip(town, None)
+        for function in SHOWING:
+            function(town, None)
+
+    def test_wrong_sides_of_grids(self):
+        for function in (grid, shares):
+            for side in NOT_SIDES:
+                self.assert_raises_just(BadNumber, function, side, 2)
+                self.assert_raises_just(BadNumber, function, 2, side)
+                self.assert_raises_just(BadNumber, function, 1, side)
+                self.assert_raises_just(BadNumber, function, side, 1)
+                for other in NOT_SIDES[::3]:
+                    self.assert_raises_just(BadNumber, function, side, other)
+            self.assert_raises_just(BadNumber, function, 1, 1)
+
+    def test_a_wrong_most_side_of_grids(self):
+        for most in NOT_SIDES:
+            self.assert_raises_just(BadNumber, round_grids, most)
+
+    def test_a_wrong_text(self):
+        for value in NOT_TEXTS:
+            self.assert_raises_just(BadText, read_town, value)
 
 
 class OrderOfWords(unittest.TestCase):
@@ -164,13 +198,18 @@ class Unmodified(unittest.TestCase):
         rights = [(1, 2), (1, 2), (1, 2, 1, 1, 2, 1), (0, 2), (0, 2), 2]
         for (function, _, _), right in zip(OF_TWO, rights):
             self.call(function, town, right)
-        self.call(shows_round_trip, town, round_trip(town))
+        for function in SHOWING:
+            self.call(function, town, round_trip(town))
+        self.call(grid, 2, 3)
+        self.call(shares, 6, 6)
+        self.call(round_grids, 4)
+        self.call(read_town, write_town(town))
 
     def test_wrong_towns(self):
         for _, town in bad_towns():
             for function in [is_town, *OF_A_TOWN]:
                 self.call(function, town)
-            for function in [shows_round_trip, *[row[0] for row in OF_TWO]]:
+            for function in [*SHOWING, *[row[0] for row in OF_TWO]]:
                 self.call(function, town, [1, 2])
 
     def test_wrong_second_arguments(self):
@@ -178,7 +217,27 @@ class Unmodified(unittest.TestCase):
             for value in values:
                 self.call(function, LOTS_3, value)
         for value in [[(0, 0), (1, 0)], [[0, 0]], {(0, 0): [1]}, ([0, 0], [1, 0]), [3, 1, 2], {}]:
-            self.call(shows_round_trip, (2, 1, (1, 0), (0, 0)), value)
+            for function in SHOWING:
+                self.call(function, (2, 1, (1, 0), (0, 0)), value)
+
+    def test_wrong_sides_and_texts(self):
+        for side in NOT_SIDES:
+            for function in (grid, shares):
+                self.call(function, side, [side])
+                self.call(function, 2, side)
+            self.call(round_grids, side)
+        for value in NOT_TEXTS:
+            self.call(read_town, value)
+
+    def test_what_a_walker_is_passed(self):
+        town = (2, 3, (1, 1), (0, 1))
+        before = copied(town)
+        walker = Walker(town)
+        walker.go(1)
+        walker.undo()
+        for street in NOT_STREETS:
+            self.call(walker.go, street)
+        self.assertTrue(same(before, town))
 
 
 def copied(value):
@@ -217,16 +276,26 @@ class SameAnswers(unittest.TestCase):
     def test_equal_arguments_have_equal_answers(self):
         for town in [(2, 2, (1, 0), (0, 1)), (12, 12, (1, 0), (0, 1)), (6, 1, (2, 0), (3, 0))]:
             for function in [is_town, *OF_A_TOWN]:
-                if function is not round_trip:
+                if function not in NOT_ALWAYS_EQUAL:
                     again = (*town[:2], tuple(list(town[2])), tuple(list(town[3])))
                     self.assertEqual(function(town), function(again))
 
+    def test_equal_numbers_and_texts_have_equal_answers(self):
+        self.assertEqual(grid(12, 6), grid(12, 6))
+        self.assertEqual(shares(12, 6), shares(12, 6))
+        self.assertEqual(round_grids(12), round_grids(12))
+        text = "town 2 3\nfirst 1 1\nsecond 0 1"
+        self.assertEqual(read_town(text), read_town("".join(list(text))))
+
     def test_answers_hold_plain_integers_only(self):
         town = (2, 3, (1, 1), (0, 1))
+        walker = Walker(town)
+        walker.go(2)
         answers = [
             ends(town, (1, 2)), order(town, (1, 2)), lots(town), table(town, (0,)), rings(town, (0,)),
             count_plans(town), plans_by_rings(town), numbers(town), count_rings(town, 1), count_rounds(town),
-            round_trip(town),
+            round_trip(town), grid(2, 3), shares(6, 6), round_grids(3), open_walk(town), walker.streets, walker.path,
+            walker.missing(), read_town(write_town(town)),
         ]
         while answers:
             answer = answers.pop()

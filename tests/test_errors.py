@@ -1,14 +1,18 @@
-"""The errors of the interface, and where its functions are defined."""
+"""The errors of the interface, and where its functions and classes are defined."""
 
 import unittest
 
-from roundstreets import errors, plans, rounds, towns
+from roundstreets import errors, grids, openwalks, plans, rounds, towns, towntexts, walkers
 
 WITHOUT_FIELDS = ["BadCrossing", "BadTable", "BadChoice", "BadNumber", "NotWhole", "NoStep", "BadText"]
 FUNCTIONS = {
     towns: ["is_town", "is_whole", "ends", "order", "lots"],
     plans: ["is_plan", "table", "rings", "count_plans", "plans_by_rings"],
     rounds: ["numbers", "count_rings", "count_rounds", "round_trip", "shows_round_trip"],
+    grids: ["grid", "shares", "round_grids"],
+    openwalks: ["open_walk", "shows_open_walk"],
+    walkers: ["Walker"],
+    towntexts: ["write_town", "read_town"],
 }
 
 

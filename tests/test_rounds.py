@@ -4,7 +4,7 @@ import unittest
 from math import comb
 
 from plain_counts import goes_round, leads_everywhere, plain_trips, towns_up_to
-from wrong_values import HUGE, NEVER_TRIPS, nested
+from wrong_values import HUGE, NEVER_WALKS, nested
 
 from roundstreets.rounds import count_rings, count_rounds, numbers, round_trip, shows_round_trip
 
@@ -131,7 +131,7 @@ class ShowsRoundTrip(unittest.TestCase):
 
     def test_other_kinds_of_values(self):
         for town in [TWO, SIX, NOT_WHOLE, ONE_LOT, LARGEST, (2, 1, (0, 0), (1, 0))]:
-            for value in NEVER_TRIPS:
+            for value in NEVER_WALKS:
                 self.assertIs(shows_round_trip(town, value), False)
 
     def test_what_is_returned_is_shown(self):
